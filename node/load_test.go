@@ -166,7 +166,8 @@ func TestLoadOdd(t *testing.T) {
 	if dead := commit(t, n, s, 90); !slices.Equal(dead, []int{20, 21, 25, 80}) || !same(loads(t, s, 91), n) {
 		t.Errorf("P13.2: dead %v, %v", dead, shows(n))
 	}
-	n.Truncate(100, deaf(t))
+	s.sectors[11] = api.Sector{99: 'x'}
+	n.Truncate(100, s.read)
 	pends(t, n, "blocks behind the Size", entry(codec.Node, 0))
 	if dead := commit(t, n, s, 95); !slices.Equal(dead, []int{12, 91}) || !same(loads(t, s, 95), n) || !slices.Equal(n.Sectors(), []int{11, 24, 90, 95}) {
 		t.Errorf("P13.2: dead %v, %v", dead, shows(n))

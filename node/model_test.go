@@ -270,7 +270,7 @@ func (w *walk) step(t *testing.T, r *rand.Rand) string {
 		if r.Intn(2) == 0 {
 			size = min(w.m.size, max(0, w.m.size-r.Intn(500)))
 		}
-		if e := w.n.Clone().Truncate(size, broken); (e == api.ErrIo) != (size < w.m.size && size%128 != 0 && w.m.needs(size, size+1)) {
+		if e := w.n.Clone().Truncate(size, broken); (e == api.ErrIo) != (size%128 != 0 && w.m.needs(size, size+1)) {
 			t.Fatalf("P13.1: Truncate(%d) of a dead disk = %v", size, e)
 		} else if e != api.OK {
 			w.n.Truncate(size, broken)

@@ -195,6 +195,7 @@ func TestReaders(t *testing.T) {
 		{"Truncate between", func(n *node.Node, r node.Reader) api.Errno { return n.Truncate(256, r) }, nil},
 		{"Truncate to the same", func(n *node.Node, r node.Reader) api.Errno { return n.Truncate(384, r) }, nil},
 		{"Truncate to more", func(n *node.Node, r node.Reader) api.Errno { return n.Truncate(500, r) }, nil},
+		{"Truncate to a block more", func(n *node.Node, r node.Reader) api.Errno { return n.Truncate(512, r) }, nil},
 		{"Truncate to none", func(n *node.Node, r node.Reader) api.Errno { return n.Truncate(0, r) }, nil},
 		{"Move of a block", func(n *node.Node, r node.Reader) api.Errno { _, e := n.Move(entry(codec.Data, 1), 51, r); return e }, []int{51}},
 		{"Move of the inode", func(n *node.Node, r node.Reader) api.Errno { _, e := n.Move(entry(codec.Node, 0), 53, r); return e }, nil},
@@ -321,6 +322,64 @@ func TestTails(t *testing.T) {
 			reads(t, n, s, 128, 999, want)
 		}
 	}
+}
+
+// P13.1, P13.2: of blocks that were loaded with other bytes behind the Size, Truncate makes the tail noughts also if the Size gets greater, or stays; they count as written to just then.
+func TestLoadedTails(t *testing.T) {
+	for _, x := range []struct {
+		size, tail int // the tail begins there on the disk
+		want       []codec.Entry
+	}{
+		{5, 10, []codec.Entry{entry(codec.Data, 0), entry(codec.Node, 0)}},
+		{10, 10, []codec.Entry{entry(codec.Data, 0), entry(codec.Node, 0)}},
+		{10, 11, []codec.Entry{entry(codec.Data, 0), entry(codec.Node, 0)}},
+		{20, 10, []codec.Entry{entry(codec.Data, 0), entry(codec.Node, 0)}},
+		{20, 127, []codec.Entry{entry(codec.Data, 0), entry(codec.Node, 0)}},
+		{20, 128, []codec.Entry{entry(codec.Node, 0)}},
+		{10, 128, nil},
+		{127, 127, []codec.Entry{entry(codec.Data, 0), entry(codec.Node, 0)}},
+		{128, 10, []codec.Entry{entry(codec.Node, 0)}},
+		{300, 10, []codec.Entry{entry(codec.Node, 0)}},
+	} {
+		s := newStore()
+		var block api.Sector
+		copy(block[:10], "abcdefghij")
+		copy(block[x.tail:], bytes.Repeat([]byte("x"), 128))
+		s.sectors[20] = block
+		s.sectors[30] = inode(t, codec.Inode{Num: 2, Version: 1, Kind: api.File, Size: 10, Direct: [8]int{20}})
+		n := loads(t, s, 30)
+		before := n.Clone()
+		broken := func(int) (api.Sector, api.Errno) { return api.Sector{}, api.ErrPipe }
+		if e := n.Truncate(x.size, broken); x.size < 128 && (e != api.ErrPipe || !same(n, before)) {
+			t.Errorf("P13.1: Truncate(%d) of what can't be read: %v, %v", x.size, e, shows(n))
+		}
+		n = loads(t, s, 30)
+		if e := n.Truncate(x.size, s.read); e != api.OK {
+			t.Errorf("P13.1: Truncate(%d) = %v", x.size, e)
+		}
+		pends(t, n, "Truncate of what was loaded", x.want...)
+		if x.size >= 128 {
+			continue
+		}
+		if e := n.Truncate(128, s.read); e != api.OK {
+			t.Errorf("P13.1: Truncate(128) = %v", e)
+		}
+		clear(block[x.size:])
+		reads(t, n, s, 0, 128, string(block[:]))
+	}
+}
+
+// P13.1: of a block that lies over a greater Size, behind the one that it had, the tail is noughts, too; those behind it are holes.
+func TestBehindTheSize(t *testing.T) {
+	s := newStore()
+	s.sectors[20] = api.Sector(bytes.Repeat([]byte("x"), 128))
+	s.sectors[30] = inode(t, codec.Inode{Num: 2, Version: 1, Kind: api.File, Size: 10, Direct: [8]int{0, 20, 20}})
+	n := loads(t, s, 30)
+	if e := n.Truncate(200, s.read); e != api.OK || !slices.Equal(n.Indexes(), []int{1}) {
+		t.Errorf("P13.1: Truncate(200) = %v, %v", e, n.Indexes())
+	}
+	n.Truncate(300, s.read)
+	reads(t, n, s, 200, 100, string(make([]byte, 100)))
 }
 
 // P13.2: a block over which a lesser Size lies counts as written to, though all of its tail is noughts; over a greater one, or a hole, it doesn't.
